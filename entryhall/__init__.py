@@ -1,0 +1,1 @@
+"""Entryhall: an insertion-ordered dictionary that shows its inside."""

@@ -1,0 +1,1 @@
+"""The tests of the package: run `python3 -m unittest` in the folder above."""
