@@ -1,6 +1,6 @@
 """Plain keys, and the codes that are computed for them."""
 
-from entryhall.errors import BadKey
+from entryhall.errors import BadCode, BadKey
 
 CODES = 4294967296
 
@@ -22,6 +22,11 @@ TUPLE_FACTOR = 1000003
 def is_whole(thing):
     """Tell whether a thing is an integer: True and False are not."""
     return isinstance(thing, int) and not isinstance(thing, bool)
+
+
+def is_between(thing, low, high):
+    """Tell whether a thing is an integer from low to high."""
+    return is_whole(thing) and low <= thing <= high
 
 
 def is_text(thing):
@@ -51,7 +56,13 @@ def _is_plain_within(thing, depth):
 
 def is_code(thing):
     """Tell whether a thing is a code."""
-    return is_whole(thing) and 0 <= thing < CODES
+    return is_between(thing, 0, CODES - 1)
+
+
+def need_code(thing):
+    """Refuse what is no code."""
+    if not is_code(thing):
+        raise BadCode("this is no code")
 
 
 def code_of(key):

@@ -1,6 +1,6 @@
 """Key objects that count, fail, lie or change a table, and how keys are asked."""
 
-from entryhall.codes import code_of, is_code, is_plain, is_text
+from entryhall.codes import code_of, is_plain, is_text, need_code
 from entryhall.errors import BadCode, BadKey, BadStep, CodeFault, MatchFault
 
 STEP_ITEMS = {"put": 3, "drop": 2, "clear": 1, "compact": 1, "shrink": 1, "reserve": 2}
@@ -35,11 +35,6 @@ def _need_label(label):
         raise BadKey("this is no label")
 
 
-def _need_code(code):
-    if not is_code(code):
-        raise BadCode("this is no code")
-
-
 def _need_filled(items):
     if not isinstance(items, tuple) or len(items) == 0:
         raise BadCode("this is no tuple with at least one item")
@@ -62,7 +57,7 @@ class Key:
 
     def __init__(self, label, code):
         _need_label(label)
-        _need_code(code)
+        need_code(code)
         self.label = label
         self._code = code
 
@@ -143,7 +138,7 @@ class DriftingKey(Key):
         _need_label(label)
         _need_filled(codes)
         for code in codes:
-            _need_code(code)
+            need_code(code)
         super().__init__(label, codes[0])
         self._codes = codes
         self._turn = 0
@@ -239,7 +234,7 @@ def asked_code(key):
     if not isinstance(key, Key):
         return code_of(key)
     code = key.code()
-    _need_code(code)
+    need_code(code)
     return code
 
 
