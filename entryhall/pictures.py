@@ -35,7 +35,9 @@ class Picture:
     def first(self, key):
         """Return the index of a key, or -1."""
         # What is no key may equal one, as True equals 1, or be nothing that a dict can look up.
-        return self._places.get(key, -1) if is_key(key) else -1
+        if is_key(key) and key in self._places:
+            return self._places[key]
+        return -1
 
     def __contains__(self, key):
         return self.first(key) >= 0
