@@ -29,6 +29,11 @@ def is_between(thing, low, high):
     return is_whole(thing) and low <= thing <= high
 
 
+def is_count(thing):
+    """Tell whether a thing is an integer from 0 on."""
+    return is_whole(thing) and thing >= 0
+
+
 def is_text(thing):
     """Tell whether a thing is a string that may be a key or a label."""
     if not isinstance(thing, str) or len(thing) > MAX_SIGNS:

@@ -1,6 +1,6 @@
 """Slots, the sizes that a row of them can have, and the paths of codes through them."""
 
-from entryhall.codes import is_between, is_whole, need_code
+from entryhall.codes import is_between, is_count, is_whole, need_code
 from entryhall.errors import BadCode, BadSize, NoEntry, TooLarge
 
 EMPTY = -1
@@ -32,12 +32,8 @@ def _need_number(many, most):
         raise BadSize("this is no integer that is allowed here")
 
 
-def _is_count(thing):
-    return is_whole(thing) and thing >= 0
-
-
 def _need_index(index):
-    if not _is_count(index):
+    if not is_count(index):
         raise NoEntry(index)
 
 
@@ -63,7 +59,7 @@ def path(code, size, many):
     """Yield the first slots of the path of a code."""
     need_code(code)
     _need_size(size)
-    if not _is_count(many):
+    if not is_count(many):
         raise BadSize("this is no number of slots")
     slot = code % size
     push = code
@@ -84,6 +80,13 @@ class SlotTable:
     def __init__(self, size):
         _need_size(size)
         self._slots = [EMPTY] * size
+
+    @classmethod
+    def holding(cls, row):
+        """Return slots that hold what a list or tuple holds; its length is a size."""
+        slots = cls(len(row))
+        slots._slots = list(row)
+        return slots
 
     @property
     def size(self):
@@ -111,9 +114,7 @@ class SlotTable:
 
     def twin(self):
         """Return a new SlotTable with the same slots."""
-        other = SlotTable(self.size)
-        other._slots = list(self._slots)
-        return other
+        return SlotTable.holding(self._slots)
 
     def place(self, code, index):
         """Write an index into the place of a code, and return the slot."""

@@ -1,16 +1,35 @@
 """The table: entries in the order in which they were added, and the slots that lead to them."""
 
 from entryhall.codes import code_of, is_between
-from entryhall.errors import BadPairs, BadSize, Empty, Locked, Missing, NoEntry, NotHeld, TooLarge
+from entryhall.errors import BadPairs, BadSize, BadView, Empty, Locked, Missing, NoEntry, NotHeld, TooLarge
+from entryhall.inside import Inside, are_same_pairs
 from entryhall.seeking import seek, seek_key
 from entryhall.slots import SlotTable, capacity, growth, size_for
 from entryhall.unruly import asked_code
 
 
-def _is_pairs(thing):
+def is_pairs(thing):
+    """Tell whether a thing is a list or tuple of pairs."""
     if not isinstance(thing, (list, tuple)):
         return False
     return all([isinstance(pair, tuple) and len(pair) == 2 for pair in thing])
+
+
+def merge_into(target, sources):
+    """Put lists of pairs, and the entries of what has stored codes, as they are when their turn comes."""
+    for source in sources:
+        if isinstance(source, list):
+            for key, value in source:
+                target.put(key, value)
+        else:
+            for key, code, value in source.live_entries():
+                target.put_coded(key, code, value)
+
+
+def need_table(thing):
+    """Refuse what is no table, where a cursor or a view is made of it."""
+    if not isinstance(thing, Table):
+        raise BadView("this is no table")
 
 
 class Table:
@@ -21,10 +40,7 @@ class Table:
     MAX_RESTARTS = 16
 
     def __init__(self, pairs=()):
-        self._slots = SlotTable(self.MIN_SIZE)
-        # An entry is a tuple (key, code, value); a hole is None.
-        self._entries = []
-        self._live = 0
+        self._inside = Inside(SlotTable(self.MIN_SIZE), [])
         self._mark = 0
         self._changes = 0
         self._holds = 0
@@ -50,17 +66,17 @@ class Table:
     @property
     def live(self):
         """The number of entries that are not holes."""
-        return self._live
+        return self._inside.many
 
     @property
     def filled(self):
         """The number of entries with the holes."""
-        return len(self._entries)
+        return len(self._inside.entries)
 
     @property
     def size(self):
         """The number of slots."""
-        return self._slots.size
+        return self._inside.slots.size
 
     @property
     def capacity(self):
@@ -91,41 +107,55 @@ class Table:
         """Return the entry with this index, (key, code, value), or None for a hole."""
         if not is_between(index, 0, self.filled - 1):
             raise NoEntry(index)
-        return self._entries[index]
+        return self._inside.entries[index]
 
     def slot_at(self, slot):
         """Return what a slot holds."""
-        return self._slots.value_at(slot)
+        return self._inside.slots.value_at(slot)
 
     def trail_slots(self, code):
         """Return a list of the slots on the trail of a code."""
-        return self._slots.trail(code)
+        return self._inside.slots.trail(code)
 
     def layout(self):
         """Return (size, slots, entries, mark)."""
-        return self.size, self._slots.as_tuple(), tuple(self._entries), self._mark
+        return self.size, self._inside.slots.as_tuple(), tuple(self._inside.entries), self._mark
+
+    def live_entries(self):
+        """Return a list of the live entries, each a tuple (key, code, value)."""
+        return self._inside.live_entries()
+
+    def live_indexes(self):
+        """Return a list of the indexes of the live entries."""
+        return self._inside.live_indexes()
 
     def each_key(self):
         """Yield the keys in order."""
-        for entry in self._live_entries():
+        for entry in self.live_entries():
             yield entry[0]
 
     def each_pair(self):
         """Yield the pairs (key, value) in order."""
-        for entry in self._live_entries():
+        for entry in self.live_entries():
             yield entry[0], entry[2]
 
     def each_value(self):
         """Yield the values in order."""
-        for entry in self._live_entries():
+        for entry in self.live_entries():
             yield entry[2]
-
-    def _live_entries(self):
-        return [entry for entry in self._entries if entry is not None]
 
     def put(self, key, value):
         """Replace the value of a key, or add an entry for it."""
-        self._put_coded(key, asked_code(key), value)
+        self.put_coded(key, asked_code(key), value)
+
+    def put_coded(self, key, code, value):
+        """Put a key whose code is known already."""
+        _, index, _ = seek(self, key, code)
+        if index >= 0:
+            self._replace(index, value)
+        else:
+            self._need_space()
+            self._add(key, code, value)
 
     def get(self, key, default=None):
         """Return the value of a key, or the default."""
@@ -179,21 +209,11 @@ class Table:
             raise Missing(key)
         return index
 
-    def _put_coded(self, key, code, value):
-        _, index, _ = seek(self, key, code)
-        if index >= 0:
-            self._replace(index, value)
-        else:
-            self._need_space()
-            self._add(key, code, value)
-
     def pop_last(self):
         """Remove the last live entry, and return its pair."""
-        if self._live == 0:
-            raise Empty("the table has no entries")
+        self._need_entries()
         self._need_free()
-        last = max([index for index, entry in enumerate(self._entries) if entry is not None])
-        key, _, value = self._remove(last)
+        key, _, value = self._remove(self.live_indexes()[-1])
         return key, value
 
     def replace_at(self, index, value):
@@ -211,38 +231,20 @@ class Table:
         """Put the entries of tables, the pairs of lists and tuples, and then names with their values."""
         sources = []
         for index, other in enumerate(others):
-            if not isinstance(other, Table) and not _is_pairs(other):
+            if not isinstance(other, Table) and not is_pairs(other):
                 raise BadPairs(index)
             sources.append(other if isinstance(other, Table) else list(other))
-        for source in sources:
-            if isinstance(source, Table):
-                self._merge_entries(source._live_entries())
-            else:
-                self._merge_pairs(source)
-        self._merge_pairs(list(more.items()))
-
-    def _merge_entries(self, entries):
-        for key, code, value in entries:
-            self._put_coded(key, code, value)
-
-    def _merge_pairs(self, pairs):
-        for key, value in pairs:
-            self.put(key, value)
+        merge_into(self, sources + [list(more.items())])
 
     def copy(self):
         """Return a new plain table with the same live entries and the same size."""
         other = Table()
-        other._fill(self.size, self._live_entries())
+        other._inside.fill(self.size, self.live_entries())
         return other
 
     def same_pairs(self, other):
         """Tell whether another table has identical keys and equal values in the same order."""
-        if not isinstance(other, Table) or self._live != other.live:
-            return False
-        for own, its in zip(list(self.each_pair()), list(other.each_pair())):
-            if not (own[0] == its[0] and own[1] == its[1]):
-                return False
-        return True
+        return isinstance(other, Table) and are_same_pairs(self.live_entries(), other.live_entries())
 
     def clear(self):
         """Remove everything, and go back to the least size."""
@@ -252,13 +254,13 @@ class Table:
 
     def compact(self):
         """Rebuild the table at the same size if there is a hole."""
-        if self.filled > self._live:
+        if self.filled > self.live:
             self._need_free()
             self._rebuild(self.size)
 
     def shrink(self):
         """Rebuild the table at the least size for its entries if it is larger."""
-        size = size_for(self._live)
+        size = size_for(self.live)
         if size < self.size:
             self._need_free()
             self._rebuild(size)
@@ -267,7 +269,7 @@ class Table:
         """Rebuild the table for so many entries if the room is too small for them."""
         if not is_between(many, 0, Table.MAX_LIVE):
             raise BadSize("this is no number of entries that a table can have")
-        if self.room < many - self._live:
+        if self.room < many - self.live:
             self._need_free()
             self._rebuild(size_for(many))
 
@@ -281,55 +283,75 @@ class Table:
             raise NotHeld("the table is not held")
         self._holds -= 1
 
+    def inside_now(self):
+        """Return a copy of the inside, to which the table can be set back."""
+        return self._inside.twin()
+
+    def holds_now(self):
+        """Return how often the table is held."""
+        return self._holds
+
+    def set_back(self, inside):
+        """Take over a copy of an inside; the holds stay, the mark and the changes go on."""
+        self._inside = inside.twin()
+        self._count_change()
+
     def _need_free(self):
         if self._holds > 0:
             raise Locked("the table is held")
 
     def _need_space(self):
         self._need_free()
-        if self._live >= self.MAX_LIVE:
+        if self.live >= self.MAX_LIVE:
             raise TooLarge(self.MAX_LIVE)
 
+    def _need_entries(self):
+        if self.live == 0:
+            raise Empty("the table has no entries")
+
     def _need_live(self, index):
-        if not is_between(index, 0, self.filled - 1) or self._entries[index] is None:
+        if self.entry_at(index) is None:
             raise NoEntry(index)
 
     def _value_at(self, index):
-        return self._entries[index][2]
+        return self._inside.entries[index][2]
+
+    def _act(self, change):
+        """Act on a change, which is described as a record: nothing to do in a plain table.
+
+        Classes below extend this, each with a call of super() before its own part.
+        """
+
+    def _count_change(self):
+        self._mark += 1
+        self._changes += 1
 
     def _add(self, key, code, value):
         if self.room == 0:
-            self._rebuild(growth(self._live))
-        self._slots.place(code, self.filled)
-        self._entries.append((key, code, value))
-        self._live += 1
-        self._mark += 1
-        self._changes += 1
+            self._rebuild(growth(self.live))
+        self._inside.put_in((key, code, value))
+        self._count_change()
+        self._act(("added", key, value))
 
     def _replace(self, index, value):
-        key, code, _ = self._entries[index]
-        self._entries[index] = (key, code, value)
+        key, code, before = self._inside.entries[index]
+        self._inside.entries[index] = (key, code, value)
+        self._act(("replaced", key, before, value))
 
     def _remove(self, index):
-        entry = self._entries[index]
-        self._slots.erase(self._slots.slot_of(entry[1], index))
-        self._entries[index] = None
-        self._live -= 1
-        self._mark += 1
-        self._changes += 1
+        entry = self._inside.take_out(index)
+        self._count_change()
+        self._act(("removed", entry[0], entry[2]))
         return entry
 
     def _clear(self):
-        if self._live > 0:
-            self._changes += 1
-        self._fill(self.MIN_SIZE, [])
+        many = self.live
+        self._inside.fill(self.MIN_SIZE, [])
         self._mark += 1
+        if many > 0:
+            self._changes += 1
+            self._act(("cleared", many))
 
     def _rebuild(self, size):
-        self._fill(size, self._live_entries())
+        self._inside.fill(size, self.live_entries())
         self._mark += 1
-
-    def _fill(self, size, entries):
-        self._slots.refill(size, [entry[1] for entry in entries])
-        self._entries = entries
-        self._live = len(entries)
