@@ -22,6 +22,7 @@ class Inside:
         # An entry is a tuple (key, code, value); a hole is None.
         self.entries = list(entries)
         self.many = len(self.live_entries())
+        # The records of a journaled table, and the pairs that a bounded one has removed.
         self.written = []
         self.pushed = []
 
